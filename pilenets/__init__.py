@@ -1,0 +1,1 @@
+"""Pilenets: rows sorted by piles and lines."""
