@@ -9,6 +9,20 @@ FUNCTIONS = [
     ("pilenets.lists", "put_to_order", ["row"]),
     ("pilenets.lists", "turned_about", ["row"]),
     ("pilenets.lists", "undone_row", ["row"]),
+    ("pilenets.doings", "standing_behind", ["net", "row", "standing", "move"]),
+    ("pilenets.doings", "moves_in", ["net", "row", "standing"]),
+    ("pilenets.doings", "first_standing", ["net"]),
+    ("pilenets.doings", "brings_out", ["net", "row", "doing"]),
+    ("pilenets.found", "way_out", ["net", "row"]),
+    ("pilenets.found", "how_many_doings", ["net", "row"]),
+    ("pilenets.found", "comes_out", ["net", "row"]),
+    ("pilenets.never", "never_shows", ["net", "row", "paper"]),
+    ("pilenets.never", "all_standings", ["net", "row"]),
+    ("pilenets.pieces", "piece_at", ["row", "places"]),
+    ("pilenets.pieces", "holds_piece", ["row", "other"]),
+    ("pilenets.pieces", "bad_piece", ["net", "row"]),
+    ("pilenets.pieces", "least_bad", ["net", "most"]),
+    ("pilenets.pieces", "doing_kept", ["net", "row", "doing", "places"]),
 ]
 
 
