@@ -8,6 +8,18 @@ IN = -1
 OUT = -2
 TOP = 10 ** 60 - 1
 
+# Lists in which two numbers are alike.
+ALIKE = [[1, 1], [3, 1, 2, 3], [0, 0, 0], [TOP, 5, TOP], [-TOP, -TOP], [2, 3, 1, 1]]
+
+# Things that are no lists of whole numbers from 0 to below three, one for each of four places.
+NO_MARKS = [
+    None, True, 0, 4, TOP, "0012", b"0012", (0, 0, 1, 2), {0: 0, 1: 0, 2: 1, 3: 2}, {0, 1, 2}, range(4), len,
+    [], [0], [0, 0, 1], [0, 0, 1, 2, 2], [0] * 300, [[0, 0, 1, 2]], [(0, 0, 1, 2)],
+    [0, 0, 1, 3], [3, 0, 1, 2], [0, 0, 1, -1], [-1, 0, 1, 2], [0, 0, TOP, 1], [0, -TOP, 0, 1], [0, 10 ** 29, 0, 1],
+    [0, 0, 1, True], [False, 0, 1, 2], [0, 0, 1, "2"], [0, 0, 1, None], [0, 0, 1, 2.0], [0, 0, 1, (2,)],
+    [0, 0, 1, [2]], ["0", "0", "1", "2"], [None] * 4, [0, 0, 1, len],
+]
+
 
 def subsets(things):
     """All lists of some of these things, each in their order."""
@@ -164,6 +176,61 @@ def reached_from(net, row, starts, most=None):
 def is_out(net, row):
     """Whether the last standing of a row is among all that can be come to."""
     return last_of(net, row) in reached_from(net, row, [first_of(net)])
+
+
+def pieces_that_fall(row):
+    """All lists of places, rising, whose numbers fall, in the order of lists."""
+    lists = [[]]
+    for place in range(len(row)):
+        lists += [places + [place] for places in lists if not places or row[places[-1]] > row[place]]
+    return sorted(lists)
+
+
+def against(row):
+    """The pairs of places that stand against one another, by the words of 34."""
+    numbers = range(len(row))
+    return [
+        (i, j) for i in numbers for j in numbers
+        if i < j and row[i] < row[j] and any(row[k] < row[i] for k in numbers if k > j)
+    ]
+
+
+def all_good_marks(row, many, begun=()):
+    """All good marks for so many piles, in the order of lists."""
+    place = len(begun)
+    if place == len(row):
+        yield list(begun)
+        return
+    rivals = [i for i, j in against(row) if j == place]
+    for mark in range(many):
+        if all(begun[rival] != mark for rival in rivals):
+            yield from all_good_marks(row, many, (*begun, mark))
+
+
+def branches(row, many, begun=()):
+    """The paper of branches of 37, behind some marks, of a row without good ones."""
+    place = len(begun)
+    unused = min(mark for mark in range(place + 1) if mark not in begun)
+    papers = []
+    for mark in range(many):
+        leaves = [("against", i, j) for i, j in against(row) if j == place and begun[i] == mark]
+        if mark <= unused:
+            papers.append(leaves[0] if leaves else branches(row, many, (*begun, mark)))
+    return ("branch", place, papers)
+
+
+def doing_by(word, row, many, marks):
+    """The doing of 33 and 38, step by step: out if that may be done anywhere, else in."""
+    net = side_by_side([word] * many)
+    standing = first_of(net)
+    doing = []
+    while standing != last_of(net, row):
+        move = next((way for way in net[1] if way[1] == OUT and done(net, row, standing, way)), None)
+        if move is None:
+            move = (IN, marks[standing[0]])
+        doing.append(move)
+        standing = done(net, row, standing, move)[1]
+    return doing
 
 
 def kinds(thing):

@@ -23,6 +23,23 @@ FUNCTIONS = [
     ("pilenets.pieces", "bad_piece", ["net", "row"]),
     ("pilenets.pieces", "least_bad", ["net", "most"]),
     ("pilenets.pieces", "doing_kept", ["net", "row", "doing", "places"]),
+    ("pilenets.sidelines", "lines_net", ["many"]),
+    ("pilenets.sidelines", "piles_net", ["many"]),
+    ("pilenets.sidelines", "falling_piece", ["row"]),
+    ("pilenets.sidelines", "line_numbers", ["row"]),
+    ("pilenets.sidelines", "doing_by_lines", ["row", "many", "lines"]),
+    ("pilenets.sidepiles", "against_pairs", ["row"]),
+    ("pilenets.sidepiles", "marks_good", ["row", "many", "marks"]),
+    ("pilenets.sidepiles", "fewest_piles", ["row"]),
+    ("pilenets.sidepiles", "branches_show", ["row", "many", "paper"]),
+    ("pilenets.sidepiles", "marks_or_never", ["row", "many"]),
+    ("pilenets.sidepiles", "doing_by_piles", ["row", "many", "marks"]),
+    ("pilenets.counts", "how_many_rows", ["net", "length"]),
+    ("pilenets.counts", "rows_kept_in", ["net", "length"]),
+    ("pilenets.counts", "shapes_of", ["length"]),
+    ("pilenets.counts", "how_many_fillings", ["shape"]),
+    ("pilenets.counts", "rows_by_shapes", ["length", "many"]),
+    ("pilenets.counts", "rows_by_sums", ["length"]),
 ]
 
 

@@ -1,15 +1,18 @@
-"""Point 4, as far as doings, papers of never and bad pieces reach: what is told holds together."""
+"""Point 4: what is told by one file holds together with what the others tell."""
 
 import itertools
 import random
 import unittest
 
+from pilenets.counts import how_many_rows, rows_by_shapes, rows_by_sums, rows_kept_in
 from pilenets.doings import brings_out
 from pilenets.errors import TooMany
 from pilenets.found import comes_out, how_many_doings, way_out
 from pilenets.lists import put_to_order
 from pilenets.never import all_standings, never_shows
 from pilenets.pieces import bad_piece, doing_kept, piece_at
+from pilenets.sidelines import doing_by_lines, falling_piece, line_numbers, lines_net, piles_net
+from pilenets.sidepiles import branches_show, doing_by_piles, fewest_piles, marks_good, marks_or_never
 from tests.by_definition import (
     IN, OUT, TOP, first_of, is_out, last_of, nets_of_stations, one_behind_the_other, reached_from, rows_of,
     rows_up_to, side_by_side,
@@ -141,6 +144,45 @@ class WhateverIsLetBy(unittest.TestCase):
             for row in rows_of(5):
                 places = bad_piece(net, row)
                 self.assertIs(is_out(net, row), places is None)
+
+
+class SideBySide(unittest.TestCase):
+
+    def rows(self):
+        """All rows of up to five numbers, and some of six."""
+        return rows_up_to(5) + rows_of(6)[::17]
+
+    def test_lines_just_where_no_falling_piece_is_longer(self):
+        for row in self.rows():
+            longest = len(falling_piece(row))
+            for many in range(4):
+                self.assertIs(comes_out(lines_net(many), row), longest <= many)
+            doing = doing_by_lines(row, longest, line_numbers(row))
+            self.assertIs(brings_out(lines_net(longest), row, doing), True)
+
+    def test_piles_just_where_there_are_good_marks(self):
+        for row in self.rows():
+            fewest, first = fewest_piles(row)
+            self.assertIs(comes_out(piles_net(0), row), fewest == 0)
+            for many in range(1, 4):
+                kind, told = marks_or_never(row, many)
+                self.assertIs(comes_out(piles_net(many), row), fewest <= many)
+                self.assertEqual(kind, "marks" if fewest <= many else "never")
+                if kind == "marks":
+                    self.assertIs(marks_good(row, many, told), True)
+                    self.assertIs(brings_out(piles_net(many), row, doing_by_piles(row, many, told)), True)
+                else:
+                    self.assertIs(branches_show(row, many, told), True)
+            self.assertIs(marks_good(row, fewest, first), True)
+            self.assertIs(brings_out(piles_net(fewest), row, doing_by_piles(row, fewest, first)), True)
+
+    def test_rows_counted_one_way_and_another(self):
+        for length in range(7):
+            for many in range(4 if length < 6 else 3):
+                net = lines_net(many)
+                self.assertEqual(how_many_rows(net, length), rows_by_shapes(length, many))
+                self.assertTrue(all(len(falling_piece(row)) > many for row in rows_kept_in(net, length)))
+            self.assertEqual(how_many_rows(piles_net(1), length), rows_by_sums(length))
 
 
 if __name__ == "__main__":
