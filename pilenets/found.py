@@ -40,12 +40,13 @@ def comes_out(net, row):
     return last in standings_found(net, order, last)
 
 
-def standings_found(net, order, goal):
+def standings_found(net, order, goal, most=MOST_STANDINGS):
     """How each standing is found, in order, until the goal is found or all that can be are.
 
     The row is put to its order. Told is a dict: for each standing how few moves
     lead to it, the standing ahead of it, and the move between these two. Standings
-    that are not the goal are refused with TooMany once there are too many of them.
+    that are not the goal are refused with TooMany once there are too many of them;
+    where the most is None, there never are.
     """
     first = first_standing(net)
     found = {first: (0, None, None)}
@@ -57,7 +58,7 @@ def standings_found(net, order, goal):
         for move, behind in steps_in(net, order, standing):
             if behind in found or goal in found:
                 continue
-            if behind != goal and len(found) == MOST_STANDINGS:
+            if behind != goal and len(found) == most:
                 raise TooMany("more standings are come to than are sought through")
             found[behind] = (further, standing, move)
             waiting.append(behind)

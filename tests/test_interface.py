@@ -4,6 +4,8 @@ import importlib
 import inspect
 import unittest
 
+from pilenets.desk import Desk
+
 FUNCTIONS = [
     ("pilenets.nets", "net_of", ["stations", "ways"]),
     ("pilenets.lists", "put_to_order", ["row"]),
@@ -40,6 +42,16 @@ FUNCTIONS = [
     ("pilenets.counts", "how_many_fillings", ["shape"]),
     ("pilenets.counts", "rows_by_shapes", ["length", "many"]),
     ("pilenets.counts", "rows_by_sums", ["length"]),
+    ("pilenets.joined", "nets_beside", ["one", "other"]),
+    ("pilenets.joined", "nets_behind", ["one", "other"]),
+    ("pilenets.joined", "doing_beside", ["one", "other", "row", "doing", "first"]),
+    ("pilenets.alike", "first_parting", ["one", "other", "most"]),
+    ("pilenets.texts", "net_text", ["net"]),
+    ("pilenets.texts", "row_text", ["row"]),
+    ("pilenets.texts", "doing_text", ["doing"]),
+    ("pilenets.texts", "read_net", ["text"]),
+    ("pilenets.texts", "read_row", ["text"]),
+    ("pilenets.texts", "read_doing", ["text"]),
 ]
 
 
@@ -50,6 +62,11 @@ class Interface(unittest.TestCase):
             function = getattr(importlib.import_module(file), name)
             self.assertEqual(function.__module__, file)
             self.assertEqual(list(inspect.signature(function).parameters), arguments)
+
+    def test_the_desk_stands_in_its_file_with_its_method(self):
+        self.assertEqual(Desk.__module__, "pilenets.desk")
+        self.assertEqual(list(inspect.signature(Desk).parameters), [])
+        self.assertEqual(list(inspect.signature(Desk.__dict__["say"]).parameters), ["self", "row"])
 
 
 if __name__ == "__main__":

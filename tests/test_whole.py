@@ -4,15 +4,18 @@ import itertools
 import random
 import unittest
 
+from pilenets.alike import first_parting
 from pilenets.counts import how_many_rows, rows_by_shapes, rows_by_sums, rows_kept_in
 from pilenets.doings import brings_out
 from pilenets.errors import TooMany
 from pilenets.found import comes_out, how_many_doings, way_out
+from pilenets.joined import doing_beside, nets_behind, nets_beside
 from pilenets.lists import put_to_order
 from pilenets.never import all_standings, never_shows
 from pilenets.pieces import bad_piece, doing_kept, piece_at
 from pilenets.sidelines import doing_by_lines, falling_piece, line_numbers, lines_net, piles_net
 from pilenets.sidepiles import branches_show, doing_by_piles, fewest_piles, marks_good, marks_or_never
+from pilenets.texts import doing_text, net_text, read_doing, read_net, read_row, row_text
 from tests.by_definition import (
     IN, OUT, TOP, first_of, is_out, last_of, nets_of_stations, one_behind_the_other, reached_from, rows_of,
     rows_up_to, side_by_side,
@@ -183,6 +186,56 @@ class SideBySide(unittest.TestCase):
                 self.assertEqual(how_many_rows(net, length), rows_by_shapes(length, many))
                 self.assertTrue(all(len(falling_piece(row)) > many for row in rows_kept_in(net, length)))
             self.assertEqual(how_many_rows(piles_net(1), length), rows_by_sums(length))
+
+
+class PutTogether(unittest.TestCase):
+
+    NETS = [
+        ([], []), ([], [(IN, OUT)]), side_by_side(["pile"]), side_by_side(["line"]), side_by_side(["pile", "line"]),
+        one_behind_the_other(["pile", "pile"]), (["line"], [(IN, OUT), (IN, 0), (0, OUT)]),
+        (["pile", "pile"], [(IN, 1), (0, OUT), (1, 0)]),
+    ]
+
+    def test_what_comes_out_of_either_comes_out_of_both_beside_one_another(self):
+        for one, other in itertools.product(self.NETS, repeat=2):
+            both = nets_beside(one, other)
+            for row in rows_up_to(3) + [[2, 3, 1, 0]]:
+                for net, first in [(one, True), (other, False)]:
+                    kind, told = way_out(net, row)
+                    if kind == "doing":
+                        self.assertIs(brings_out(both, row, doing_beside(one, other, row, told, first)), True)
+                        self.assertIs(comes_out(both, row), True)
+
+    def test_what_the_one_brings_into_an_order_that_the_other_one_brings_out(self):
+        for one, other in itertools.product(self.NETS, repeat=2):
+            both = nets_behind(one, other)
+            for row in rows_up_to(3):
+                orders = [list(order) for order in itertools.permutations(row)]
+                through = [
+                    order for order in orders
+                    if comes_out(one, [order.index(number) for number in row]) and comes_out(other, order)
+                ]
+                self.assertIs(comes_out(both, row), through != [])
+
+    def test_the_first_row_that_parts_is_kept_in_by_just_one(self):
+        for one, other in itertools.product(self.NETS, repeat=2):
+            row = first_parting(one, other, 4)
+            for length in range(5 if row is None else len(row)):
+                self.assertEqual(rows_kept_in(one, length), rows_kept_in(other, length))
+            if row is not None:
+                first, second = rows_kept_in(one, len(row)), rows_kept_in(other, len(row))
+                parted = [only for only in first if only not in second] + [only for only in second if only not in first]
+                self.assertEqual(row, min(parted))
+
+    def test_what_is_told_is_written_and_read_as_it_was(self):
+        for one, other in itertools.product(self.NETS, repeat=2):
+            for net in [nets_beside(one, other), nets_behind(one, other)]:
+                self.assertEqual(read_net(net_text(net)), net)
+                for row in [[], [4], [10 ** 29, -10 ** 29], [2, 3, 1]]:
+                    self.assertEqual(read_row(row_text(row)), row)
+                    kind, told = way_out(net, row)
+                    if kind == "doing":
+                        self.assertEqual(read_doing(doing_text(told)), told)
 
 
 if __name__ == "__main__":
